@@ -31,6 +31,23 @@ def part(i):
     return [3, i]
 
 
+def score():
+    return [4]
+
+
+def why(i, g):
+    return [5, i, g]
+
+
+def fits(p):
+    return [6, p]
+
+
+def spell(letters):
+    row = numbers(letters)
+    return [7, len(row)] + row
+
+
 def split(given):
     """The answers that stand one behind another, each without its count."""
     found = []
@@ -45,6 +62,7 @@ def split(given):
 
 def run(*calls):
     """The answers to these calls on one object, looked at for their kinds."""
+    assert 1 <= len(calls) <= 100, "not a line that is handed in"
     line = [number for call in calls for number in call]
     given = answers(line)
     assert isinstance(given, list) and all(type(number) is int for number in given)
@@ -58,6 +76,16 @@ def answer_of(text, call):
     loaded, answer = run(load(text), call)
     assert loaded[0] == 1, f"the list is not right: {loaded}"
     return answer
+
+
+def answers_of(text, asked):
+    """What any number of calls answer, asked in lines that each load the list first."""
+    found = []
+    for start in range(0, len(asked), 99):
+        answered = run(load(text), *asked[start:start + 99])
+        assert answered[0][0] == 1, f"the list is not right: {answered[0]}"
+        found += answered[1:]
+    return found
 
 
 def form_of(text):
@@ -81,6 +109,13 @@ def parts_of(text, i):
     gaps = answer[0]
     assert len(answer) == gaps + 4, "not as many numbers as there are to be"
     return answer[1:gaps + 1], answer[gaps + 1:]
+
+
+def spelt(text, letters):
+    """Letters as a list spells them, as a text."""
+    answer = answer_of(text, spell(letters))
+    assert answer[0] == len(answer) - 1, "the count of bytes is wrong"
+    return bytes(answer[1:]).decode("ascii")
 
 
 def word_rows(count):

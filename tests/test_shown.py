@@ -2,8 +2,8 @@
 
 import unittest
 
-from helper import (WORKED, answer_of, form_of, levels, load, part, pattern_rows, run, shown,
-                    word_rows)
+from helper import (WORKED, answer_of, answers_of, fits, form_of, levels, load, part, pattern_rows, run,
+                    score, shown, spell, why, word_rows)
 
 TEXTS = (
     WORKED,
@@ -54,9 +54,14 @@ class ReadAsTheSameList(unittest.TestCase):
     def test_every_answer_is_the_same(self):
         for text in TEXTS:
             form = form_of(text)
-            asked = [shown(), levels("table"), levels("abababababababab"), levels("zz"), levels("xyzxyz")]
+            asked = [shown(), score()]
+            for letters in ("table", "abababababababab", "zz", "xyzxyz", "a", "abcdefghijklmnop"):
+                asked += [levels(letters), spell(letters)]
             asked += [part(i) for i in range(-1, 26)]
-            self.assertEqual(run(load(form), *asked), run(load(text), *asked))
+            asked += [why(i, g) for i in range(-1, 26) for g in range(-1, 18)]
+            asked += [fits(p) for p in range(-1, 42)]
+            self.assertEqual(run(load(form)), run(load(text)))
+            self.assertEqual(answers_of(form, asked), answers_of(text, asked))
 
     def test_the_form_of_the_form_is_the_form(self):
         for text in TEXTS:
